@@ -1,10 +1,19 @@
-"""Values and books that the tests share."""
+"""Values and books that the tests share, and rows reckoned by hand."""
+
+import random
 
 from fallingfields import errors
+
+TOP = 10 ** 30
+ALIGNMENTS = (1, 2, 4, 8, 16, 32, 64)
 
 CALM = ((6, 4), (3, 2))
 THIN = ((6, 4), (3, 1))
 SIX = ((1, 1), (2, 2), (3, 4), (10 ** 30, 64), (5, 8), (7, 16))
+PAIR = ((6, 4), (3, 2))
+TAIL = ((9, 8), (1, 1), (2, 2))
+TRIO = ((2, 2), (7, 8), (3, 4))
+WIDE = ((10 ** 30, 64), (10 ** 30 - 1, 2), (48, 16))
 HUGE = 10 ** 399
 
 
@@ -35,3 +44,86 @@ def answer(call):
     except errors.FieldsError as error:
         return ("raised", type(error), repr(vars(error)))
     return ("returned", repr(result))
+
+
+def sizes_about(alignment):
+    """Return sizes about multiples of alignment, the least and the greatest sizes among them."""
+    near = [many * alignment + off for many in (1, 2, 3, 5, 63, 64) for off in (-1, 0, 1)]
+    far = [TOP - alignment - 1, TOP - alignment, TOP - alignment + 1, TOP - 1, TOP]
+    return sorted({size for size in [1, 2, 3] + near + far if size >= 1})
+
+
+def some_books(many, most_kinds, seed):
+    """Return so many books, the same for the same seed: small sizes and great ones, alike kinds among them."""
+    numbers = random.Random(seed)
+    books = []
+    for _ in range(many):
+        alignments = numbers.sample(ALIGNMENTS, numbers.randint(1, 7))
+        kinds = []
+        for _ in range(numbers.randint(1, most_kinds)):
+            alignment = numbers.choice(alignments)
+            small = numbers.randint(1, numbers.choice((3, 3 * alignment)))
+            kinds.append((numbers.choice((small, small, small, numbers.choice(sizes_about(alignment)))), alignment))
+        books.append(tuple(kinds))
+    return books
+
+
+def some_rows(book, many, longest, seed):
+    """Return so many rows of book, the same for the same seed, of one kind alone and of all kinds among them."""
+    numbers = random.Random(seed)
+    rows = []
+    for _ in range(many):
+        places = numbers.sample(range(len(book)), numbers.randint(1, len(book)))
+        rows.append(tuple(numbers.choice(places) for _ in range(numbers.randint(1, longest))))
+    return rows
+
+
+def some_records(book, many, greatest, seed):
+    """Return so many records of book, the same for the same seed, with noughts among their numbers."""
+    numbers = random.Random(seed)
+    records = []
+    while len(records) < many:
+        record = tuple(numbers.choice((0, numbers.randint(0, greatest))) for _ in book)
+        if sum(record) > 0:
+            records.append(record)
+    return records
+
+
+def next_multiple(number, multiple):
+    """Return the first multiple of multiple from number on, found by going on one by one."""
+    while number % multiple != 0:
+        number += 1
+    return number
+
+
+def spans_by_hand(book, row, end=0):
+    """Return the list of the pairs (begin, end) of the fields of row, reckoned field by field."""
+    spans = []
+    for place in row:
+        begin = next_multiple(end, book[place][1])
+        end = begin + book[place][0]
+        spans.append((begin, end))
+    return spans
+
+
+def whole_by_hand(book, row):
+    """Return the whole of row, reckoned field by field."""
+    return next_multiple(spans_by_hand(book, row)[-1][1], max(book[place][1] for place in row))
+
+
+def written_out(pieces):
+    """Return pieces as one long row."""
+    return tuple(place for row, times in pieces for _ in range(times) for place in row)
+
+
+def pieces_whole_by_doubling(book, pieces):
+    """Return the whole of pieces from how far 1, 2, 4, 8 .. rows go from each place modulo 64."""
+    end = 0
+    for row, times in pieces:
+        jumps = [spans_by_hand(book, row, start)[-1][1] - start for start in range(64)]
+        while times > 0:
+            if times % 2 == 1:
+                end += jumps[end % 64]
+            jumps = [jump + jumps[(start + jump) % 64] for start, jump in enumerate(jumps)]
+            times //= 2
+    return next_multiple(end, max(book[place][1] for row, _ in pieces for place in row))
