@@ -1,5 +1,6 @@
 """Values and books that the tests share, and rows reckoned by hand."""
 
+import itertools
 import random
 
 from fallingfields import errors
@@ -89,11 +90,91 @@ def some_records(book, many, greatest, seed):
     return records
 
 
+def orders_of(book):
+    """Return all orders of book."""
+    return list(itertools.permutations(range(len(book))))
+
+
+def all_records(kinds, most):
+    """Return all records of so many kinds with at most so many fields of each."""
+    return [record for record in itertools.product(range(most + 1), repeat=kinds) if sum(record) > 0]
+
+
+def all_rows(record):
+    """Return all rows with just the fields of record."""
+    if sum(record) == 0:
+        return [()]
+    rows = []
+    for place, number in enumerate(record):
+        if number > 0:
+            fewer = record[:place] + (number - 1,) + record[place + 1:]
+            rows += [(place,) + row for row in all_rows(fewer)]
+    return rows
+
+
+def small_books(kinds, alignments, most):
+    """Return all books of so many kinds with these alignments and sizes from 1 to most."""
+    each = [(size, alignment) for alignment in alignments for size in range(1, most + 1)]
+    return list(itertools.product(each, repeat=kinds))
+
+
+def level_kind(numbers, unit, alignment, most):
+    """Return a kind of a level book with this unit, its room at most so many multiples of the least it may be."""
+    step = max(unit, alignment)
+    return (numbers.randint(1, most) * step - numbers.randrange(min(unit, alignment)), alignment)
+
+
+def some_level_books(many, kinds, seed, alignments=ALIGNMENTS):
+    """Return so many level books of so many kinds, the same for the same seed: small rooms and great ones."""
+    numbers = random.Random(seed)
+    books = []
+    for _ in range(many):
+        unit = numbers.choice((1, 1, 1, 2, 2, 4, 8, 64))
+        of = numbers.sample(alignments, numbers.randint(1, len(alignments)))
+        most = [numbers.choice((1, 3, 9, 9, TOP // 64)) for _ in range(kinds)]
+        books.append(tuple(level_kind(numbers, unit, numbers.choice(of), number) for number in most))
+    return books
+
+
 def next_multiple(number, multiple):
     """Return the first multiple of multiple from number on, found by going on one by one."""
     while number % multiple != 0:
         number += 1
     return number
+
+
+def room_by_hand(kind):
+    """Return the room of kind."""
+    size, alignment = kind
+    return next_multiple(size, alignment)
+
+
+def lack_by_hand(kind):
+    """Return the lack of kind."""
+    return room_by_hand(kind) - kind[0]
+
+
+def power_by_hand(number):
+    """Return the greatest power of 2 that divides number, found by going on one by one."""
+    power = 1
+    while number % (2 * power) == 0:
+        power *= 2
+    return power
+
+
+def unlevel_pairs(book):
+    """Return all pairs of places by which book is not level."""
+    return [
+        (x, y) for x, y in itertools.product(range(len(book)), repeat=2)
+        if lack_by_hand(book[x]) >= power_by_hand(room_by_hand(book[y]))
+    ]
+
+
+def rooms_whole_by_hand(book, record):
+    """Return the sum of the rooms of all fields of record, rounded up to their greatest alignment."""
+    there = [(kind, number) for kind, number in zip(book, record) if number > 0]
+    together = sum(number * room_by_hand(kind) for kind, number in there)
+    return next_multiple(together, max(alignment for (_, alignment), _ in there))
 
 
 def spans_by_hand(book, row, end=0):

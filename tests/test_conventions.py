@@ -1,12 +1,18 @@
 import copy
 import unittest
 
-from fallingfields import books, booktexts, laying, orders, pieces, rooms
-from samples import CALM, SIX, TAIL, TRIO, answer, any_values, some_books, some_records, some_rows
+from fallingfields import books, booktexts, errors, floors, laying, leasts, levels, orders, peaks, pieces, rooms
+from samples import (
+    CALM, SIX, TAIL, THIN, TRIO, answer, any_values, some_books, some_level_books, some_records, some_rows,
+)
 
-RIGHT = (CALM, (2, 1), (0, 1, 1), (((0, 1), 3), ((1,), 10 ** 30)), "6/4 3/2", "3 0")
+RIGHT = (
+    CALM, (2, 1), (0, 1, 1), (((0, 1), 3), ((1,), 10 ** 30)), "6/4 3/2", "3 0", ((2, 4), (((0, 1, 1), 2),)),
+)
 OF_VALUE = {"book_error": books, "read_book": booktexts}
-OF_BOOK_AND_VALUE = {"record_error": books, "row_error": books, "pieces_error": books, "read_record": booktexts}
+OF_BOOK_AND_VALUE = {
+    "record_error": books, "row_error": books, "pieces_error": books, "read_record": booktexts, "beaten_holds": levels,
+}
 ARGUMENTS = {
     laying: {"laid": "book row", "row_whole": "book row", "row_padding": "book row", "row_record": "book row"},
     pieces: {"pieces_whole": "book pieces", "pieces_record": "book pieces"},
@@ -14,6 +20,12 @@ ARGUMENTS = {
         "rooms": "book", "lacks": "book", "unit": "book", "record_unit": "book record", "rooms_whole": "book record",
     },
     orders: {"order_whole": "book order record", "falling_orders": "book"},
+    levels: {"level_error": "book", "beaten": "book", "beaten_holds": "book value"},
+    peaks: {"peak_error": "book order", "peak_record": "book order", "greatest_excess": "book order"},
+    floors: {
+        "shares": "book", "floor_whole": "book record", "needed": "book record", "floor_pieces": "book record",
+    },
+    leasts: {"least_whole": "book record", "least_row": "book record"},
 }
 
 
@@ -29,14 +41,15 @@ def calls():
         pairs.append((lambda v, f=function: f(v), lambda v, f=function: f(value=v)))
     for name, module in OF_BOOK_AND_VALUE.items():
         function = getattr(module, name)
-        pairs.append((lambda v, f=function: f(CALM, v), lambda v, f=function: f(value=v, book=CALM)))
+        pairs.append((lambda v, f=function: f(THIN, v), lambda v, f=function: f(value=v, book=THIN)))
     return pairs
 
 
 def sample_arguments():
     """Return dicts of arguments by their names, for books of all sizes, newly made."""
     found = []
-    for at, book in enumerate([CALM, SIX, TAIL, TRIO, CALM * 3] + some_books(20, 6, 31)):
+    books_of_all = [CALM, THIN, SIX, TAIL, TRIO, CALM * 3] + some_books(20, 6, 31) + some_level_books(9, 4, 32)
+    for at, book in enumerate(books_of_all):
         rows = some_rows(book, 3, 12, at)
         for record in some_records(book, 2, 9, at) + some_records(book, 1, 10 ** 30, at):
             found.append({
@@ -44,7 +57,8 @@ def sample_arguments():
                 "row": rows[0],
                 "pieces": tuple((row, at * 10 ** 28 + 1) for row in rows),
                 "record": record,
-                "order": tuple(range(len(book)))[::-1],
+                "order": tuple(range(len(book)))[::-1] if at % 2 == 0 else tuple(range(len(book))),
+                "value": (record, tuple(((place,), number) for place, number in enumerate(record) if number > 0)),
             })
     return found
 
@@ -59,40 +73,55 @@ def calls_by_name():
     ]
 
 
+def answer_by_place(function, names, arguments):
+    """Return what function tells of these arguments, handed in by place."""
+    return answer(lambda: function(*[arguments[name] for name in names]))
+
+
 class OfBooksTest(unittest.TestCase):
     """Calls whose arguments are all as described: books, rows, pieces, records, orders."""
 
     def test_arguments_by_place_and_by_name(self):
         for function, names, arguments in calls_by_name():
             with self.subTest(function.__name__, arguments=arguments):
-                by_place = repr(function(*[arguments[name] for name in names]))
+                by_place = answer_by_place(function, names, arguments)
                 for ordered in (names, names[::-1]):
-                    self.assertEqual(repr(function(**{name: arguments[name] for name in ordered})), by_place)
+                    by_name = {name: arguments[name] for name in ordered}
+                    self.assertEqual(answer(lambda: function(**by_name)), by_place)
 
     def test_nothing_that_is_handed_in_is_changed(self):
         for function, names, arguments in calls_by_name():
             ahead = repr(copy.deepcopy(arguments))
-            function(*[arguments[name] for name in names])
+            answer_by_place(function, names, arguments)
             self.assertEqual(repr(arguments), ahead)
 
     def test_equal_calls_tell_equal_things_behind_calls_for_other_books(self):
-        told = [repr(function(*[arguments[name] for name in names])) for function, names, arguments in calls_by_name()]
+        told = [answer_by_place(*call) for call in calls_by_name()]
         again = [
-            repr(function(*[copy.deepcopy(arguments[name]) for name in names]))
+            answer_by_place(function, names, copy.deepcopy(arguments))
             for function, names, arguments in reversed(calls_by_name())
         ]
         self.assertEqual(told, again[::-1])
 
+    def test_each_function_has_told_something(self):
+        returned = {call[0] for call in calls_by_name() if answer_by_place(*call)[0] == "returned"}
+        for function, _, _ in calls_by_name():
+            self.assertIn(function, returned)
+
     def test_what_is_told_is_integers_and_tuples_of_these(self):
         for function, names, arguments in calls_by_name():
-            self.check_plain(function(*[arguments[name] for name in names]))
+            try:
+                told = function(*[arguments[name] for name in names])
+            except errors.FieldsError as error:
+                told = tuple(vars(error).values())
+            self.check_plain(told)
 
     def check_plain(self, told):
         if type(told) is tuple:
             for item in told:
                 self.check_plain(item)
-        else:
-            self.assertIs(type(told), int)
+        elif told is not None:
+            self.assertIn(type(told), (int, bool))
 
     def test_each_function_is_defined_in_its_file(self):
         for module, table in ARGUMENTS.items():

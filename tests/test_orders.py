@@ -5,15 +5,10 @@ from fallingfields.laying import row_whole
 from fallingfields.orders import falling_orders, order_whole
 from fallingfields.pieces import pieces_whole
 from fallingfields.rooms import rooms_whole
-from samples import ALIGNMENTS, CALM, SIX, TOP, TRIO, some_books, some_records, whole_by_hand
+from samples import ALIGNMENTS, CALM, SIX, TOP, TRIO, orders_of, some_books, some_records, whole_by_hand
 
 ODD = ((5, 4), (2, 2))
 ORDERS_OF_THREE = ((0, 1, 2), (0, 2, 1), (1, 0, 2), (1, 2, 0), (2, 0, 1), (2, 1, 0))
-
-
-def orders_of(book):
-    """Return all orders of book."""
-    return list(itertools.permutations(range(len(book))))
 
 
 def row_by(order, record):

@@ -4,20 +4,9 @@ from fallingfields.bounds import MAX_SIZE
 from fallingfields.laying import row_record, row_whole
 from fallingfields.rooms import lacks, record_unit, rooms, rooms_whole, unit
 from samples import (
-    ALIGNMENTS, PAIR, SIX, TAIL, TOP, WIDE, next_multiple, sizes_about, some_books, some_records, some_rows,
+    ALIGNMENTS, PAIR, SIX, TAIL, TOP, WIDE, next_multiple, power_by_hand, room_by_hand, sizes_about, some_books,
+    some_records, some_rows,
 )
-
-
-def room_by_hand(kind):
-    size, alignment = kind
-    return next_multiple(size, alignment)
-
-
-def power_by_hand(number):
-    power = 1
-    while number % (2 * power) == 0:
-        power *= 2
-    return power
 
 
 class RoomsTest(unittest.TestCase):
