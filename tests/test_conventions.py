@@ -1,7 +1,9 @@
 import copy
 import unittest
 
-from fallingfields import books, booktexts, errors, floors, laying, leasts, levels, orders, peaks, pieces, rooms
+from fallingfields import (
+    books, booktexts, comparing, errors, floors, laying, leasts, levels, mends, orders, peaks, pieces, rooms, things,
+)
 from samples import (
     CALM, SIX, TAIL, THIN, TRIO, answer, any_values, some_books, some_level_books, some_records, some_rows,
 )
@@ -26,6 +28,9 @@ ARGUMENTS = {
         "shares": "book", "floor_whole": "book record", "needed": "book record", "floor_pieces": "book record",
     },
     leasts: {"least_whole": "book record", "least_row": "book record"},
+    things: {"array_kind": "kind many", "record_kind": "book record", "keeps_level": "book kind"},
+    mends: {"rounded": "book lot", "least_lot": "book", "level_lots": "book"},
+    comparing: {"larger_record": "one other"},
 }
 
 
@@ -58,6 +63,11 @@ def sample_arguments():
                 "pieces": tuple((row, at * 10 ** 28 + 1) for row in rows),
                 "record": record,
                 "order": tuple(range(len(book)))[::-1] if at % 2 == 0 else tuple(range(len(book))),
+                "kind": book[at % len(book)],
+                "many": max(record),
+                "lot": tuple(range(at % 2, len(book), 2)),
+                "one": book,
+                "other": books_of_all[at - at % 3] if at % 2 == 0 else book[::-1],
                 "value": (record, tuple(((place,), number) for place, number in enumerate(record) if number > 0)),
             })
     return found

@@ -216,7 +216,8 @@ class FloorPiecesTest(unittest.TestCase):
         ):
             self.check(book, record)
         self.assertTrue(self.check(((TOP, 64),) * 6, (TOP,) * 6))
-        self.assertTrue(self.check(((1, 64), (1, 1), (64, 64), (32, 32), (16, 16), (8, 8)), (1, 63, TOP, TOP, TOP, TOP)))
+        book = ((1, 64), (1, 1), (64, 64), (32, 32), (16, 16), (8, 8))
+        self.assertTrue(self.check(book, (1, 63, TOP, TOP, TOP, TOP)))
 
     def test_the_longest_rows(self):
         record = (TOP // 100, TOP)
@@ -233,7 +234,8 @@ class WhatHoldsTest(unittest.TestCase):
     """What [F4] tells."""
 
     def test_no_row_is_below_the_floor(self):
-        for book in small_books(2, (1, 2, 4), 5)[::2] + small_books(2, (8, 2), 8)[::5] + small_books(3, (1, 2, 4), 3)[::9]:
+        books = small_books(2, (1, 2, 4), 5)[::2] + small_books(2, (8, 2), 8)[::5] + small_books(3, (1, 2, 4), 3)[::9]
+        for book in books:
             for record in all_records(len(book), 3 if len(book) == 2 else 2):
                 least = min(row_whole(book, row) for row in all_rows(record))
                 with self.subTest(book=book, record=record):

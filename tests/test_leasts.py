@@ -107,7 +107,9 @@ class LeastTest(unittest.TestCase):
         ):
             self.assertEqual(parts(record), many)
             self.judge_row(SIX[-len(record):], record)
-        for record in ((15, 16), (2, 85), (1, 1, 1, 32), (3, 3, 3, 4), (1, 2, 2, 2, 2, 2), (2, 2, 2, 2, 2, 2), (0, 15, 0, 16)):
+        for record in (
+            (15, 16), (2, 85), (1, 1, 1, 32), (3, 3, 3, 4), (1, 2, 2, 2, 2, 2), (2, 2, 2, 2, 2, 2), (0, 15, 0, 16),
+        ):
             self.assertTrue(256 < parts(record) and sum(record) <= 100)
             self.too_many(MAX_STATES, SIX[:len(record)], record)
         # 257 is a prime, so one number would have to be 256, which is too many fields; 258 is the next one.

@@ -67,18 +67,8 @@ def level_and_small():
     return [book for book in three + four if not unlevel_pairs(book)]
 
 
-class PeakErrorTest(unittest.TestCase):
-    def check(self, book, order):
-        with self.subTest(book=book, order=order):
-            found = peaks(book, order)
-            self.assertEqual(repr(peak_error(book, order)), repr(min(found) if found else None))
-
-    def test_examples(self):
-        told = [peak_error(TRIO, order) for order in ORDERS_OF_THREE]
-        self.assertEqual(told, [(0, 1, 2), None, None, None, None, (2, 1, 0)])
-        self.assertIsNone(peak_error(((2, 2), (8, 8), (8, 4)), (0, 1, 2)))
-        self.assertEqual(peak_error(((1, 1), (2, 2), (4, 4), (1, 1)), (0, 1, 2, 3)), (0, 1, 3))
-        self.assertEqual(peak_error(((1, 1), (4, 4), (1, 1)), (2, 1, 0)), (2, 1, 0))
+class OverOrders:
+    """Tests that see a check hold for many level books and their orders."""
 
     def test_all_orders_of_small_level_books(self):
         for book in level_and_small():
@@ -90,6 +80,20 @@ class PeakErrorTest(unittest.TestCase):
             for at, book in enumerate(some_level_books(60, kinds, 200 + kinds)):
                 for order in some_orders(book, 24, at):
                     self.check(book, order)
+
+
+class PeakErrorTest(OverOrders, unittest.TestCase):
+    def check(self, book, order):
+        with self.subTest(book=book, order=order):
+            found = peaks(book, order)
+            self.assertEqual(repr(peak_error(book, order)), repr(min(found) if found else None))
+
+    def test_examples(self):
+        told = [peak_error(TRIO, order) for order in ORDERS_OF_THREE]
+        self.assertEqual(told, [(0, 1, 2), None, None, None, None, (2, 1, 0)])
+        self.assertIsNone(peak_error(((2, 2), (8, 8), (8, 4)), (0, 1, 2)))
+        self.assertEqual(peak_error(((1, 1), (2, 2), (4, 4), (1, 1)), (0, 1, 2, 3)), (0, 1, 3))
+        self.assertEqual(peak_error(((1, 1), (4, 4), (1, 1)), (2, 1, 0)), (2, 1, 0))
 
     def test_one_kind_and_two_have_no_peak(self):
         for kinds in (1, 2):
@@ -137,7 +141,7 @@ class PeakErrorTest(unittest.TestCase):
         self.assertTrue(with_a_peak > 50 and without > 50)
 
 
-class PeakRecordTest(unittest.TestCase):
+class PeakRecordTest(OverOrders, unittest.TestCase):
     def check(self, book, order):
         with self.subTest(book=book, order=order):
             if peaks(book, order):
@@ -153,17 +157,6 @@ class PeakRecordTest(unittest.TestCase):
         self.assertGreater(order_whole(TRIO, (0, 1, 2), few), order_whole(TRIO, (1, 2, 0), few))
         with self.assertRaises(Unfit):
             peak_record(TRIO, (1, 0, 2))
-
-    def test_all_orders_of_small_level_books(self):
-        for book in level_and_small():
-            for order in orders_of(book):
-                self.check(book, order)
-
-    def test_orders_of_one_kind_to_six(self):
-        for kinds in range(1, 7):
-            for at, book in enumerate(some_level_books(60, kinds, 230 + kinds)):
-                for order in some_orders(book, 24, at):
-                    self.check(book, order)
 
     def test_each_three_alignments_and_odd_rooms(self):
         for low, high, other in itertools.product(ALIGNMENTS, repeat=3):
@@ -276,7 +269,9 @@ class WhatHoldsTest(unittest.TestCase):
 
     def test_it_hangs_on_rests_alone(self):
         for at, book in enumerate(some_level_books(60, 4, 290)):
-            more = tuple((min(size, TOP - 64 * 9) + 64 * place, alignment) for place, (size, alignment) in enumerate(book))
+            more = tuple(
+                (min(size, TOP - 64 * 9) + 64 * place, alignment) for place, (size, alignment) in enumerate(book)
+            )
             if [room % 64 for room in rooms(more)] == [room % 64 for room in rooms(book)] and not unlevel_pairs(more):
                 for order in some_orders(book, 6, at):
                     with self.subTest(book=book, more=more, order=order):
