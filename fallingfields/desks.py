@@ -1,7 +1,7 @@
 """A desk: a book, the edits that changed it, and those that were taken back."""
 
 from fallingfields.books import (
-    book_error, is_alignment, is_integer_within, is_kind, is_place, is_size, record_error,
+    book_error, is_alignment, is_integer_within, is_kind, is_place, is_size, is_tuple_within, record_error,
 )
 from fallingfields.bounds import MAX_EDITS, MAX_KINDS
 from fallingfields.errors import BadBook, BadLog, NothingToRedo, NothingToUndo, NoVersion, TooManyEdits, Unfit
@@ -144,20 +144,21 @@ def desk_behind(book, log):
 
 def do_edit(desk, edit):
     """Do edit on desk; raise Unfit() also if it is no tuple of the word of an edit and its arguments."""
-    # A pattern would take a list, too.
-    if not isinstance(edit, tuple):
+    if is_edit(edit, "resize", 2):
+        desk.resize(edit[1], edit[2])
+    elif is_edit(edit, "realign", 2):
+        desk.realign(edit[1], edit[2])
+    elif is_edit(edit, "add", 2):
+        desk.add(edit[1], edit[2])
+    elif is_edit(edit, "drop", 1):
+        desk.drop(edit[1])
+    else:
         raise Unfit()
-    match edit:
-        case ("resize", place, value):
-            desk.resize(place, value)
-        case ("realign", place, value):
-            desk.realign(place, value)
-        case ("add", size, alignment):
-            desk.add(size, alignment)
-        case ("drop", place):
-            desk.drop(place)
-        case _:
-            raise Unfit()
+
+
+def is_edit(value, word, many):
+    """Return whether value is a tuple of this word and so many arguments."""
+    return is_tuple_within(value, many + 1, many + 1) and value[0] == word
 
 
 def with_kinds(book, place, kinds):

@@ -4,7 +4,7 @@ import unittest
 
 from fallingfields.books import book_error
 from fallingfields.desks import Desk, desk_behind
-from fallingfields.errors import BadBook, BadLog, NothingToRedo
+from fallingfields.errors import BadBook, BadLog, FieldsError, NothingToRedo
 from fallingfields.rooms import rooms
 from desk_samples import LOG, START, done, edit_of, state, values
 from samples import answer, some_books
@@ -58,6 +58,26 @@ class DeskBehindTest(unittest.TestCase):
         ]:
             self.bad((value,), 0)
             self.bad((("resize", 0, 5), ("add", 1, 1), value, ("drop", 0)), 2)
+
+    def test_tuples_whose_first_item_is_no_word_of_an_edit(self):
+        rest = ((), (0,), (0, 4), (0, 4, 4))
+        others = ["dro", "dropp", "drop\n", ("drop",), ["add"], {"add": 0}, FieldsError("drop")]
+        for first in values() + others:
+            for arguments in rest:
+                self.bad(((first,) + arguments,), 0)
+                self.bad((("add", 1, 1), (first,) + arguments, ("drop", 0)), 1)
+
+    def test_each_word_takes_just_its_arguments(self):
+        for word, many in (("resize", 2), ("realign", 2), ("add", 2), ("drop", 1)):
+            for arguments in ((), (1,), (1, 1), (1, 1, 1), (1, 1, 1, 1)):
+                edit = (word,) + arguments
+                if len(arguments) == many:
+                    self.assertEqual(repr(desk_behind(START, (edit,)).log), repr((edit,)))
+                else:
+                    self.bad((edit,), 0)
+                self.bad((list(edit),), 0)
+        self.bad(((),), 0)
+        self.bad((("resize", 0, 5), (), ("drop", 0)), 1)
 
     def test_edits_that_are_refused(self):
         for value in (
